@@ -1,0 +1,1 @@
+"""Sinceply: thin nets of ties, for every stretch of time."""

@@ -1,0 +1,35 @@
+"""The package's one helper: what counts as a whole number, a place, a moment, a tie."""
+
+from sinceply.errors import NoPlaces
+
+
+def is_within(thing, low, high):
+    # A truth is an int to Python, but no whole number here.
+    return isinstance(thing, int) and not isinstance(thing, bool) and low <= thing <= high
+
+
+def is_places(thing):
+    return is_within(thing, 1, 10)
+
+
+def is_place(n, thing):
+    return is_within(thing, 0, n - 1)
+
+
+def is_moment(thing):
+    return is_within(thing, 0, 10 ** 30)
+
+
+def is_tie_either_way(n, thing):
+    if not isinstance(thing, tuple) or len(thing) != 3:
+        return False
+    return is_moment(thing[0]) and is_place(n, thing[1]) and is_place(n, thing[2])
+
+
+def is_tie(n, thing):
+    return is_tie_either_way(n, thing) and thing[1] <= thing[2]
+
+
+def look_at_places(n):
+    if not is_places(n):
+        raise NoPlaces()
