@@ -1,6 +1,6 @@
 """The package's one helper: what counts as a whole number, a place, a moment, a tie."""
 
-from sinceply.errors import NoPlaces
+from sinceply.errors import NoLayers, NoPlaces
 
 
 def is_within(thing, low, high):
@@ -14,6 +14,10 @@ def is_places(thing):
 
 def is_place(n, thing):
     return is_within(thing, 0, n - 1)
+
+
+def is_layers(thing):
+    return is_within(thing, 1, 6)
 
 
 def is_moment(thing):
@@ -33,3 +37,8 @@ def is_tie(n, thing):
 def look_at_places(n):
     if not is_places(n):
         raise NoPlaces()
+
+
+def look_at_layers(k):
+    if not is_layers(k):
+        raise NoLayers()

@@ -48,3 +48,23 @@ def joined(ties, a, b):
         if more == reached:
             return b in reached
         reached = more
+
+
+def layers_by_the_words(record, k):
+    numbers = {}
+    for at in range(len(record) - 1, -1, -1):
+        younger = record[at + 1:]
+        open_ones = [
+            j for j in range(1, k + 1)
+            if not joined([tie for tie in younger if numbers[tie[0]] == j], record[at][1], record[at][2])
+        ]
+        numbers[record[at][0]] = min(open_ones, default=0)
+    return [numbers[tie[0]] for tie in record]
+
+
+def lists_within(thing):
+    found = [thing] if isinstance(thing, list) else []
+    if isinstance(thing, (list, tuple)):
+        for inner in thing:
+            found += lists_within(inner)
+    return found
