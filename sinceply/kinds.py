@@ -1,6 +1,6 @@
-"""The package's one helper: what counts as a whole number, a place, a moment, a tie."""
+"""The package's one helper: what counts as a whole number, a place, a moment, a tie, a side."""
 
-from sinceply.errors import NoLayers, NoPlaces
+from sinceply.errors import NoLayers, NoPair, NoPlaces
 
 
 def is_within(thing, low, high):
@@ -34,6 +34,18 @@ def is_tie(n, thing):
     return is_tie_either_way(n, thing) and thing[1] <= thing[2]
 
 
+def is_rising(things):
+    return all([things[at - 1] < things[at] for at in range(1, len(things))])
+
+
+def is_pair(n, a, b):
+    return is_place(n, a) and is_place(n, b) and a != b
+
+
+def is_side(n, thing):
+    return isinstance(thing, tuple) and all([is_place(n, place) for place in thing]) and is_rising(thing)
+
+
 def look_at_places(n):
     if not is_places(n):
         raise NoPlaces()
@@ -42,3 +54,8 @@ def look_at_places(n):
 def look_at_layers(k):
     if not is_layers(k):
         raise NoLayers()
+
+
+def look_at_pair(n, a, b):
+    if not is_pair(n, a, b):
+        raise NoPair()

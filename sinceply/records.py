@@ -1,7 +1,7 @@
 """Records: rising lists of ties with unlike moments."""
 
 from sinceply.errors import Clash, NoTies
-from sinceply.kinds import is_places, is_tie, is_tie_either_way, look_at_places
+from sinceply.kinds import is_places, is_rising, is_tie, is_tie_either_way, look_at_places
 
 MOST_TIES = 60
 
@@ -34,7 +34,7 @@ def is_record(n, thing):
         return False
     if not all([is_tie(n, tie) for tie in thing]):
         return False
-    return all([thing[at - 1][0] < thing[at][0] for at in range(1, len(thing))])
+    return is_rising([tie[0] for tie in thing])
 
 
 def since(record, t):

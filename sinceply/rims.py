@@ -34,3 +34,10 @@ def way_right(record, a, b, way):
         # Of the two unlike ends, the one that is not the place.
         place = sum(ends[moment]) - place
     return place == b
+
+
+def ways_right(record, a, b, ways):
+    used = []
+    for way in ways:
+        used.extend(way)
+    return len(set(used)) == len(used) and all([way_right(record, a, b, way) for way in ways])

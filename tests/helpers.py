@@ -4,6 +4,8 @@ import itertools
 import random
 
 MOST = 10 ** 30
+TIES = [(2, 0, 1), (5, 1, 2), (7, 0, 2), (MOST, 0, 1)]
+NET = (3, 2, TIES)
 
 
 def odd_things():
@@ -19,6 +21,31 @@ def odd_things():
 
 def no_number_within(low, high):
     return odd_things() + [low - 1, high + 1, str(low), [low], (low,)]
+
+
+def no_nets():
+    return odd_things() + [
+        list(NET), (3, 2), (3, 2, TIES, 1), (3, 2, tuple(TIES)), (3, 2, None), (3, 2, "none"), (3, 1, TIES),
+        (0, 2, []), (11, 2, []), (True, 2, []), ("3", 2, []), (None, 2, []), ([3], 2, []), (3, 0, []), (3, 7, []),
+        (3, True, []), (3, "2", []), (3, None, []), (2, 2, TIES), (3, 2, TIES[::-1]),
+        (3, 2, [list(tie) for tie in TIES]), (3, 2, [(1, 0, 0)]), (3, 2, [(True, 0, 1)]), (3, 2, [(1, False, 1)]),
+        (3, 2, [(1, 0, True)]), (3, 2, [(1, 1, 0)]), (3, 2, [(1, 0, 1), (1, 0, 2)]), (3, 2, [(1, 0, 1), (1, 0, 1)]),
+        (3, 2, [(-1, 0, 1)]), (3, 2, [(MOST + 1, 0, 1)]), (3, 2, [(1, 0)]), (3, 2, [None]), (1, 6, [(0, 0, 0)]), {},
+        (3, 2, {}),
+    ]
+
+
+def no_ties():
+    # Of two places or three.
+    return odd_things() + [
+        (1, 0), (1, 0, 1, 1), [1, 0, 1], (1, 1, 0), (True, 0, 1), (1, False, 1), (1, 0, True), (-1, 0, 1),
+        (MOST + 1, 0, 1), (1, -1, 0), (1, 0, 3), ("1", 0, 1), (1, None, 1), (1, 0, "1"), (2, 1, 0), 7,
+    ]
+
+
+def no_pairs(n):
+    same = [(place, place) for place in range(n)]
+    return same + [pair for odd in no_number_within(0, n - 1) for pair in ((odd, 0), (n - 1, odd), (odd, odd))]
 
 
 def some_record(seed, n, count, most=None):
@@ -50,6 +77,32 @@ def joined(ties, a, b):
         reached = more
 
 
+def since_by_the_words(ties, t):
+    return [tie for tie in ties if not tie[0] < t]
+
+
+def rim_by_the_words(ties, side):
+    return [moment for moment, a, b in ties if [a in side, b in side].count(True) == 1]
+
+
+def least_rim(n, ties, a, b):
+    return min(len(rim_by_the_words(ties, side)) for side in all_sides(n) if a in side and b not in side)
+
+
+def leads(ties, a, b, way):
+    ends = {moment: {first, second} for moment, first, second in ties if first != second}
+    for moment in way:
+        if a not in ends.get(moment, ()):
+            return False
+        (a,) = ends.pop(moment) - {a}
+    return a == b
+
+
+def lead_apart(ties, a, b, ways):
+    used = [moment for way in ways for moment in way]
+    return len(used) == len(set(used)) and all(leads(ties, a, b, way) for way in ways)
+
+
 def layers_by_the_words(record, k):
     numbers = {}
     for at in range(len(record) - 1, -1, -1):
@@ -68,3 +121,13 @@ def lists_within(thing):
         for inner in thing:
             found += lists_within(inner)
     return found
+
+
+def cleared(told):
+    for one in lists_within(told):
+        one.clear()
+
+
+def all_lists_unlike(told):
+    lists = lists_within(told)
+    return len({id(one) for one in lists}) == len(lists)

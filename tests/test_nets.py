@@ -6,22 +6,8 @@ from sinceply.nets import is_net, net_fewer, net_of, net_since
 from sinceply.records import since
 from sinceply.rims import rim
 from tests.helpers import (
-    MOST, all_sides, layers_by_the_words, no_number_within, odd_things, some_record, some_records,
+    MOST, NET, TIES, all_sides, layers_by_the_words, no_nets, no_number_within, odd_things, some_record, some_records,
 )
-
-TIES = [(2, 0, 1), (5, 1, 2), (7, 0, 2), (MOST, 0, 1)]
-NET = (3, 2, TIES)
-
-
-def no_nets():
-    return odd_things() + [
-        list(NET), (3, 2), (3, 2, TIES, 1), (3, 2, tuple(TIES)), (3, 2, None), (3, 2, "none"), (3, 1, TIES),
-        (0, 2, []), (11, 2, []), (True, 2, []), ("3", 2, []), (None, 2, []), ([3], 2, []), (3, 0, []), (3, 7, []),
-        (3, True, []), (3, "2", []), (3, None, []), (2, 2, TIES), (3, 2, TIES[::-1]),
-        (3, 2, [list(tie) for tie in TIES]), (3, 2, [(1, 0, 0)]), (3, 2, [(True, 0, 1)]), (3, 2, [(1, False, 1)]), (3, 2, [(1, 0, True)]),
-        (3, 2, [(1, 1, 0)]), (3, 2, [(1, 0, 1), (1, 0, 2)]), (3, 2, [(1, 0, 1), (1, 0, 1)]), (3, 2, [(-1, 0, 1)]),
-        (3, 2, [(MOST + 1, 0, 1)]), (3, 2, [(1, 0)]), (3, 2, [None]), (1, 6, [(0, 0, 0)]), {}, (3, 2, {}),
-    ]
 
 
 class TestIsNet(unittest.TestCase):
