@@ -19,6 +19,12 @@ def look_at_net(thing):
         raise NoNet()
 
 
+def look_at_net_layers(net, j):
+    look_at_net(net)
+    if not is_within(j, 1, net[1]):
+        raise NoLayers()
+
+
 def net_of(n, record, k):
     numbers = layered(n, record, k)
     return (n, k, [tie for tie, number in zip(record, numbers) if number > 0])
@@ -31,7 +37,5 @@ def net_since(net, t):
 
 
 def net_fewer(net, j):
-    look_at_net(net)
-    if not is_within(j, 1, net[1]):
-        raise NoLayers()
+    look_at_net_layers(net, j)
     return net_of(net[0], net[2], j)

@@ -89,6 +89,14 @@ def least_rim(n, ties, a, b):
     return min(len(rim_by_the_words(ties, side)) for side in all_sides(n) if a in side and b not in side)
 
 
+def all_least_rims(n, ties):
+    counts = {side: len(rim_by_the_words(ties, side)) for side in all_sides(n)}
+    return {
+        (a, b): min(count for side, count in counts.items() if a in side and b not in side)
+        for a, b in itertools.permutations(range(n), 2)
+    }
+
+
 def leads(ties, a, b, way):
     ends = {moment: {first, second} for moment, first, second in ties if first != second}
     for moment in way:
