@@ -34,6 +34,12 @@ def is_tie(n, thing):
     return is_tie_either_way(n, thing) and thing[1] <= thing[2]
 
 
+def is_heavy_tie(n, thing):
+    if not isinstance(thing, tuple) or len(thing) != 3:
+        return False
+    return is_pair(n, thing[0], thing[1]) and thing[0] < thing[1] and is_within(thing[2], 1, 10 ** 30)
+
+
 def is_rising(things):
     return all([things[at - 1] < things[at] for at in range(1, len(things))])
 

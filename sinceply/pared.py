@@ -7,17 +7,17 @@ from sinceply.rims import rim, ways_right
 
 def pared(n, record, k):
     look_at_layers(k)
-    kept = kept_ties(n, record, k)
-    ways = [ways_for(n, kept, tie, k) for tie in record if tie not in kept]
+    kept = kept_ties(n, record, k, hang_often)
     sides = [side_for(n, kept, tie, k) for tie in kept]
-    return ([tie[0] for tie in kept], ways, sides)
+    return ([tie[0] for tie in kept], ways_out(n, record, kept, k, ways_by_ties), sides)
 
 
-def kept_ties(n, record, k):
+def kept_ties(n, record, k, often):
+    # often tells whether two places hang together so often: by ties here, by places elsewhere.
     kept = list(record)
     for tie in record:
         others = without(kept, tie)
-        if tie[1] == tie[2] or hang_often(n, others, tie[1], tie[2], k):
+        if tie[1] == tie[2] or often(n, others, tie[1], tie[2], k):
             kept = others
     return kept
 
@@ -26,11 +26,19 @@ def without(ties, tie):
     return [other for other in ties if other != tie]
 
 
-def ways_for(n, kept, tie, k):
-    # Looked for among those kept at the end: whichever tie left a rim behind it left k others there.
-    if tie[1] == tie[2]:
-        return [[] for time in range(k)]
-    return ways_apart(n, kept, tie[1], tie[2], k)[0]
+def ways_out(n, record, kept, k, ways_of):
+    # Looked for among those kept at the end: a tie that goes leaves k ways between its own ends, so places that hung
+    # together k times still do.
+    gone = [tie for tie in record if tie not in kept]
+    return [no_ways(k) if tie[1] == tie[2] else ways_of(n, kept, tie[1], tie[2], k) for tie in gone]
+
+
+def no_ways(k):
+    return [[] for time in range(k)]
+
+
+def ways_by_ties(n, kept, a, b, k):
+    return ways_apart(n, kept, a, b, k)[0]
 
 
 def side_for(n, kept, tie, k):
@@ -53,7 +61,7 @@ def pared_right(n, record, k, told):
 
 def out_right(kept, tie, k, ways):
     if tie[1] == tie[2]:
-        return ways == [[] for time in range(k)]
+        return ways == no_ways(k)
     return len(ways) == k and ways_right(kept, tie[1], tie[2], ways)
 
 

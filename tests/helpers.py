@@ -63,6 +63,35 @@ def some_records():
         yield n, some_record(seed, n, count)
 
 
+def some_web(seed, n, count, most=9):
+    chance = random.Random(seed)
+    pairs = [sorted(chance.sample(range(n), 2)) for time in range(count if n > 1 else 0)]
+    return [(a, b, chance.randint(1, most)) for a, b in pairs]
+
+
+def some_webs():
+    for seed, (n, count) in enumerate(itertools.product((1, 2, 3, 5, 7, 10), (0, 1, 4, 12, 40))):
+        yield n, some_web(3000 + seed, n, count)
+        yield n, some_web(3100 + seed, n, count, 2)
+        yield n, some_web(3200 + seed, n, count, MOST)
+
+
+def no_webs():
+    # Of three places.
+    good = (0, 1, 5)
+    bad = odd_things() + [
+        (0, 1), (0, 1, 5, 5), [0, 1, 5], (1, 0, 5), (0, 0, 5), (2, 2, 5), (0, 3, 5), (-1, 1, 5), (0, 10 ** 40, 5),
+        (0, 1, 0), (0, 1, -1), (0, 1, MOST + 1), (0, 1, 10 ** 59), (0, 1, True), (False, 1, 5), (0, True, 5),
+        (0, 1, "5"), ("0", 1, 5), (0, None, 5), (0, 1, None), (0, 1, [5]), (0, 1, (5,)), (0, [1], 5), {0: 1}, "015",
+    ]
+    webs = [odd for odd in odd_things() if odd != []] + [(good,), {0: good}, good, "none", 0, [good] * 41]
+    return webs + [[odd] for odd in bad] + [[good, odd] for odd in bad] + [[odd, good] for odd in bad]
+
+
+def weight_by_the_words(heavy, side):
+    return sum(weight for a, b, weight in heavy if [a in side, b in side].count(True) == 1)
+
+
 def all_sides(n):
     for size in range(n + 1):
         yield from itertools.combinations(range(n), size)
@@ -109,6 +138,37 @@ def leads(ties, a, b, way):
 def lead_apart(ties, a, b, ways):
     used = [moment for way in ways for moment in way]
     return len(used) == len(set(used)) and all(leads(ties, a, b, way) for way in ways)
+
+
+def places_along(ties, a, way):
+    ends = {tie[0]: tie[1:] for tie in ties}
+    places = [a]
+    for moment in way:
+        (more,) = set(ends[moment]) - {places[-1]}
+        places.append(more)
+    return places
+
+
+def lead_apart_by_places(ties, a, b, ways):
+    if not lead_apart(ties, a, b, ways):
+        return False
+    rows = [places_along(ties, a, way) for way in ways]
+    between = [place for row in rows for place in row[1:-1]]
+    return len(between) == len(set(between)) and a not in between and b not in between
+
+
+def least_parting(n, ties, a, b):
+    straight = [tie for tie in ties if set(tie[1:]) == {a, b}]
+    others = [tie for tie in ties if tie not in straight]
+    inner = [place for place in range(n) if place not in (a, b)]
+    for size in range(n - 1):
+        for gone in itertools.combinations(inner, size):
+            if not joined(without_places(others, gone), a, b):
+                return len(straight) + size
+
+
+def without_places(ties, gone):
+    return [tie for tie in ties if tie[1] not in gone and tie[2] not in gone]
 
 
 def layers_by_the_words(record, k):
