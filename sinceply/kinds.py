@@ -3,9 +3,13 @@
 from sinceply.errors import NoLayers, NoPair, NoPlaces
 
 
-def is_within(thing, low, high):
+def is_whole(thing):
     # A truth is an int to Python, but no whole number here.
-    return isinstance(thing, int) and not isinstance(thing, bool) and low <= thing <= high
+    return isinstance(thing, int) and not isinstance(thing, bool)
+
+
+def is_within(thing, low, high):
+    return is_whole(thing) and low <= thing <= high
 
 
 def is_places(thing):

@@ -183,6 +183,11 @@ def layers_by_the_words(record, k):
     return [numbers[tie[0]] for tie in record]
 
 
+def net_by_the_words(n, ties, k):
+    rising = sorted(set(ties))
+    return (n, k, [tie for tie, number in zip(rising, layers_by_the_words(rising, k)) if number])
+
+
 def lists_within(thing):
     found = [thing] if isinstance(thing, list) else []
     if isinstance(thing, (list, tuple)):

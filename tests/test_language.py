@@ -129,6 +129,12 @@ class TestLanguage(unittest.TestCase):
         for path, node in nodes(ast.Attribute):
             self.assertIn(node.attr, own + METHODS, (path, node.lineno))
 
+    def test_no_name_is_a_method_and_a_value(self):
+        bodies = [node for path, tree in nodes(ast.ClassDef) for node in tree.body]
+        methods = [node.name for node in bodies if isinstance(node, ast.FunctionDef)]
+        values = [node.attr for path, node in nodes(ast.Attribute) if isinstance(node.ctx, ast.Store)]
+        self.assertEqual(set(methods) & set(values), set())
+
     def test_functions_and_assignments(self):
         for path, node in nodes((ast.FunctionDef, ast.ClassDef)):
             self.assertEqual(node.decorator_list, [], (path, node.name))

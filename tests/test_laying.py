@@ -7,17 +7,12 @@ from sinceply.errors import Clash, NoNet, NoPair, NoTies, Unlike
 from sinceply.laying import laid, net_come, net_melted
 from sinceply.nets import is_net, net_fewer, net_of, net_since
 from tests.helpers import (
-    MOST, NET, TIES, cleared, layers_by_the_words, no_nets, no_pairs, no_ties, since_by_the_words, some_record,
+    MOST, NET, TIES, cleared, net_by_the_words, no_nets, no_pairs, no_ties, since_by_the_words, some_record,
     some_records,
 )
 
 OTHER = (3, 2, [(3, 0, 1), (7, 0, 2), (9, 0, 1), (11, 1, 2)])
 BOTH = (3, 2, [(7, 0, 2), (9, 0, 1), (11, 1, 2), (MOST, 0, 1)])
-
-
-def net_by_the_words(n, ties, k):
-    rising = sorted(set(ties))
-    return (n, k, [tie for tie, number in zip(rising, layers_by_the_words(rising, k)) if number])
 
 
 def melted_by_the_words(ties, a, b):
